@@ -72,7 +72,7 @@ func TestP1701Flaws(t *testing.T) {
 		"nsdiffers . C. 0|nsdiffers . C. 2": network([]zone.Zone{parent, z(t, "C.", "")}, []zone.Zone{same}, []zone.Zone{parent, z(t, "c.", "ns A 10.0.0.1\n")}),
 		"gluediffers . C. ns.c. 1":          network([]zone.Zone{parent}, []zone.Zone{z(t, "c.", "@ NS ns\n@ NS other.\nns A 10.0.0.2\n")}, []zone.Zone{same}),
 		"nsdiffers . C. 1|gluediffers . C. ns.c. 1":                                            network([]zone.Zone{parent}, []zone.Zone{z(t, "c.", "ns A 10.0.0.2\nns A 10.0.0.1\n")}, []zone.Zone{same}),
-		"noglue . c. a.c. 0|noglue . c. b.c. 0|noglue . c. c. 0|nochild . c. 0|nochild . d. 0": network([]zone.Zone{z(t, ".", "c NS b.c\nc NS a.c\nc NS c\nb.c AAAA 1:0:0:0:0:0:0:0\nd NS x.c\n")}),
+		"noglue . c. c. 0|noglue . c. a.c. 0|noglue . c. b.c. 0|nochild . c. 0|nochild . d. 0": network([]zone.Zone{z(t, ".", "c NS b.c\nc NS a.c\nc NS c\nb.c AAAA 1:0:0:0:0:0:0:0\nd NS x.c\n")}),
 		"noglue . c. a.c. 0":                  network([]zone.Zone{z(t, ".", "c NS a.c\n")}, []zone.Zone{z(t, "c.", "@ NS a\na A 10.0.0.1\n"), z(t, "d.c.", "@ NS a\n")}),
 		"nochild b. a.b. 0|nochild c. a.c. 0": network([]zone.Zone{z(t, "c.", "a NS x.\n")}, []zone.Zone{z(t, "b.", "a NS x.\nq.a NS y.\n")}, []zone.Zone{z(t, "C.", "a NS x.\n")}),
 	} {
