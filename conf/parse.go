@@ -8,6 +8,7 @@ import (
 	"toponym/api"
 	"toponym/name"
 	"toponym/number"
+	"toponym/rdata"
 )
 
 const mostBound = 1<<31 - 1
@@ -143,17 +144,11 @@ func readName(s string) (name.Name, bool) {
 }
 
 func readAddress(s string) ([4]byte, bool) {
-	var out [4]byte
-	parts := strings.Split(s, ".")
-	if len(parts) != len(out) {
+	d, e := rdata.Parse(api.A, []rdata.Word{{Text: s}}, nil)
+	if e != api.OK {
 		return [4]byte{}, false
 	}
-	for i, p := range parts {
-		n, e := number.Parse(p, 255)
-		if e != api.OK {
-			return [4]byte{}, false
-		}
-		out[i] = byte(n)
-	}
+	var out [4]byte
+	copy(out[:], d.Raw)
 	return out, true
 }
