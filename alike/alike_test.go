@@ -76,6 +76,22 @@ func TestP2201Alike(t *testing.T) {
 	}
 }
 
+func TestP2201AllEndsCount(t *testing.T) {
+	a := run.End{Kind: 1, Picks: []int{0, 1, 2}}
+	for i, b := range []run.End{{Kind: 2, Picks: a.Picks}, {Kind: 1, Picks: []int{0, 1}}, {Kind: 1, Picks: []int{0, 1, 3}}, {Kind: 1, Picks: []int{0, 2, 2}}} {
+		if sameEnd(a, b) || sameLists([]run.End{a, a}, []run.End{a, b}, sameEnd) {
+			t.Error(i)
+		}
+	}
+	if !sameEnd(a, a) || sameLists([]run.End{a}, []run.End{a, a}, sameEnd) {
+		t.Error("alike")
+	}
+	n := network(t, two, "0", "a CNAME x.org.\nb CNAME none.\norg NS b.\nc CNAME y.org.\n", "1", "x A 1.2.3.4\n")
+	if Alike(n, name.Name{"a"}, name.Name{"b"}, api.A) || Alike(n, name.Name{"a"}, name.Name{"c"}, api.A) || !Alike(n, name.Name{"b"}, name.Name{"b"}, api.A) {
+		t.Error("refused alike, but not the rest")
+	}
+}
+
 // randomNet has few labels, so that its records meet.
 func randomNet(t *testing.T, r *rand.Rand) net.Net {
 	hosts := []string{"ns.", "b.", "c.org.", "none.", "d.a.org."}

@@ -50,12 +50,12 @@ func TestP1801Base(t *testing.T) {
 }
 
 func TestP1801Renames(t *testing.T) {
-	n := one(0, z(t, "Org.", "a DNAME T.\nA DNAME s.\nb CNAME c.\n"), z(t, ".", "z. DNAME a.\na.org. DNAME t.\n"))
+	n := one(0, z(t, "Org.", "a DNAME T.\nA DNAME s.\nb CNAME c.\n"), z(t, ".", "z. DNAME a.\na.org. DNAME t.\n"), z(t, "b.", "@ DNAME q.\n@ DNAME B.\n"))
 	var out []string
 	for _, r := range Renames(n) {
 		out = append(out, name.Text(r[0])+">"+name.Text(r[1]))
 	}
-	if s := strings.Join(out, " "); s != "a.org.>s. a.org.>t. z.>a." {
+	if s := strings.Join(out, " "); s != "b.>b. b.>q. a.org.>s. a.org.>t. z.>a." {
 		t.Error(s)
 	}
 	odd := net.Net{Hosts: []net.Host{{Zones: []zone.Zone{{Recs: []rec.Rec{{Data: rdata.Data{Type: api.DNAME}}}}}}}}

@@ -16,7 +16,7 @@ func TestP801Parse(t *testing.T) {
 		}
 	}
 	for s, want := range map[string]api.Errno{"": api.ErrForm, "1": api.ErrForm, "1-": api.ErrForm, "-1": api.ErrForm, "1-2/": api.ErrForm, "1-2/3/4": api.ErrForm, "1-2-3": api.ErrForm, "01-2": api.ErrForm, "1-02": api.ErrForm, "1-2/01": api.ErrForm, " 1-2": api.ErrForm, "1-2 ": api.ErrForm, "a-b": api.ErrForm, "1/2": api.ErrForm, "1/2-3": api.ErrForm,
-		"2147483648-1": api.ErrOver, "1-2147483648": api.ErrOver, "1-2/99999999999999999999": api.ErrOver, "2147483648-x": api.ErrForm, "2147483648-1/00": api.ErrForm, "2147483648-1/0": api.ErrOver,
+		"2147483648-1": api.ErrOver, "1-2147483648": api.ErrOver, "1-2/99999999999999999999": api.ErrOver, "2147483648-x": api.ErrForm, "x-2147483648": api.ErrForm, "1-x/2147483648": api.ErrForm, "2147483648-1/00": api.ErrForm, "2147483648-1/0": api.ErrOver,
 		"2-1": api.ErrArg, "1-2/0": api.ErrArg, "2-1/0": api.ErrArg} {
 		if r, e := Parse(s); r != (Range{}) || e != want {
 			t.Errorf("%q: %v, %v, want %v", s, r, e, want)

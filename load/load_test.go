@@ -206,6 +206,7 @@ func TestP901Generate(t *testing.T) {
 		"$TTL 1\n$GENERATE 1-2 a 5 A 1.2.3.4":   "f:2: type",
 		"$TTL 1\n$GENERATE 1-2 a IN A 1.2.3.4":  "f:2: type",
 		"$TTL 1\n$GENERATE 255-256 a A 1.2.3.$": "f:2: over",
+		"$TTL 1\n$GENERATE 1-2 a..$ A 1.2.3.4":  "f:2: empty",
 		"$TTL 1\n$GENERATE 1-2 a A":             "f:2: form",
 	} {
 		expect(t, want, "f", text)

@@ -181,6 +181,10 @@ func TestP1AndP2(t *testing.T) {
 	for _, q := range []name.Name{nil, {"a"}, {"x", "a"}, {"c"}, {"n"}, {"", "", ""}} {
 		Zone(z, q, -1)
 	}
+	two := zone.Zone{Recs: []rec.Rec{{Owner: name.Name{"n"}, Data: rdata.Data{Type: api.NS, Names: []name.Name{{"h"}}}}, {Owner: name.Name{"n"}, Data: rdata.Data{Type: api.NS, Names: []name.Name{{"h"}, {"i"}}}}, {Owner: name.Name{"h"}, Data: rdata.Data{Type: api.A, Raw: []byte{1, 2, 3, 4}}}}}
+	if r := Zone(two, name.Name{"n"}, 1); len(r.Data) != 2 || len(r.Glue) != 1 {
+		t.Error("a host's glue is told once")
+	}
 	z = load1(t, sample, name.Name{"Org"})
 	before := slices.Clone(z.Recs)
 	for _, q := range []name.Name{{"c", "org"}, {"cut", "org"}, {"q", "d", "org"}, {"ns", "org"}} {

@@ -75,7 +75,7 @@ func bare(origin ...string) zone.Zone {
 }
 
 func TestP1601BestServesAsk(t *testing.T) {
-	n := Net{Hosts: []Host{{Zones: []zone.Zone{bare("b", "c"), bare("c"), bare("A", "b", "c"), bare("d")}}, {Zones: []zone.Zone{bare()}}, {}}}
+	n := Net{Hosts: []Host{{Zones: []zone.Zone{bare("b", "c"), bare("c"), bare("A", "b", "c"), bare("d"), bare("D")}}, {Zones: []zone.Zone{bare()}}, {}}}
 	for _, c := range []struct {
 		s    int
 		q    name.Name

@@ -53,6 +53,7 @@ func TestP1001File(t *testing.T) {
 		"b 3 A 1.2.3.4\nb 3 A 1.2.3.5\n@ 5 NS b\nB 3 TXT x\nz. 5 NS b\n": "$ORIGIN Org.\n$TTL 3\n@ 5 IN NS b.Org.\nb IN A 1.2.3.4\n IN A 1.2.3.5\nB IN TXT \"x\"\nz. 5 IN NS b.Org.\n",
 		"b 7 A 1.2.3.4\nb 3 NS a\nb 7 MX 1 a\nb 3 TXT x":                 "$ORIGIN Org.\n$TTL 3\nb 7 IN A 1.2.3.4\n IN NS a.Org.\n 7 IN MX 1 a.Org.\n IN TXT \"x\"\n",
 		"b 9 A 1.2.3.4\nb 3 A 1.2.3.4\nc 9 A 1.2.3.4\nd 9 A 1.2.3.4":     "$ORIGIN Org.\n$TTL 9\nb 3 IN A 1.2.3.4\nc IN A 1.2.3.4\nd IN A 1.2.3.4\n",
+		"a 86400 A 1.2.3.4\nb 2147483647 A 1.2.3.4\nc 86400 A 1.2.3.4":   "$ORIGIN Org.\n$TTL 86400\na IN A 1.2.3.4\nb 2147483647 IN A 1.2.3.4\nc IN A 1.2.3.4\n",
 		"a.ORG. 1 A 1.2.3.4\na.Org. 1 A 1.2.3.5":                         "$ORIGIN Org.\n$TTL 1\na IN A 1.2.3.4\na IN A 1.2.3.5\n",
 	} {
 		if s := File(row(t, text), o); s != want {

@@ -66,7 +66,7 @@ func TestP401TextAndBack(t *testing.T) {
 		{Data{Type: api.CNAME, Names: []name.Name{nil}}, "."},
 		{Data{Type: api.MX, Names: []name.Name{org}, Nums: []uint32{10}}, "10 Org."},
 		{soa(name.Name{"m"}, name.Name{"r"}, 0, 1, 2, 3, 4294967295), "m. r. 0 1 2 3 4294967295"},
-		{Data{Type: api.TXT, Texts: []string{"", "a b", "\"\\;\x00\xff~ "}}, `"" "a b" "\"\\;\000\255~ "`},
+		{Data{Type: api.TXT, Texts: []string{"", "a b", "\"\\;\x00\xff\xc8\x7f~ "}}, `"" "a b" "\"\\;\000\255\200\127~ "`},
 		{Data{Type: 99}, `\# 0`},
 		{Data{Type: 65280, Raw: []byte{0, 0xab, 0x10}}, `\# 3 00ab10`},
 	} {
@@ -99,7 +99,7 @@ func TestP401ParseForms(t *testing.T) {
 		{api.A, words(`\#`, "4", "0a", "0", "00001"), "10.0.0.1"}, {api.A, words(`\#`, "4", "", "0a000001"), "10.0.0.1"},
 		{api.AAAA, words("0001:A:b:C:0:00:000:0000"), "1:a:b:c:0:0:0:0"}, {api.AAAA, words(`\#`, "16", strings.Repeat("fF", 16)), "ffff:ffff:ffff:ffff:ffff:ffff:ffff:ffff"},
 		{99, words(`\#`, "0"), `\# 0`}, {99, words(`\#`, "2", "aB", "", "0", "1"), `\# 2 ab01`},
-		{api.TXT, words("a.b", "\"", "\"\\065\\.\\\"", `\\#`), `"a.b" "" "A.\"" "\\#"`}, {api.TXT, words("\"\\#"), `"#"`},
+		{api.TXT, words("a.b", "\"", "\"\\065\\.\\\"", `\\#`), `"a.b" "" "A.\"" "\\#"`}, {api.TXT, words("\"\\#"), `"#"`}, {api.TXT, words("\\a.b\\100"), `"a.bd"`}, {65535, words(`\#`, "11", "0123456789abcdefABCDEF"), `\# 11 0123456789abcdefabcdef`},
 		{api.MX, words("0", "."), "0 ."},
 	} {
 		if d, e := Parse(c.t, c.l, org); e != api.OK || Text(d) != c.want {
@@ -127,7 +127,7 @@ func TestP401ParseErrors(t *testing.T) {
 		{api.NS, words("\"a"), api.ErrForm}, {api.NS, words("a..b"), api.ErrEmpty}, {api.NS, words("\\256"), api.ErrOver}, {api.NS, words("a", "b"), api.ErrForm}, {api.PTR, nil, api.ErrForm},
 		{api.MX, words("65536", "a"), api.ErrOver}, {api.MX, words("65535", "a"), api.OK}, {api.MX, words("01", "a"), api.ErrForm}, {api.MX, words("65536", "a..b"), api.ErrOver}, {api.MX, words("65536", "\"a"), api.ErrOver}, {api.MX, words("1"), api.ErrForm}, {api.MX, words("65536", "a", "b"), api.ErrForm}, {api.MX, words("-1", "a"), api.ErrForm},
 		{api.SOA, words("a", "b", "1", "2", "3", "4"), api.ErrForm}, {api.SOA, words("a", "b", "1", "2", "3", "4", "4294967296"), api.ErrOver}, {api.SOA, words("a", "b..", "4294967296", "2", "3", "4", "x"), api.ErrEmpty}, {api.SOA, words("a", "b", "4294967296", "2", "3", "4", "x"), api.ErrOver},
-		{api.TXT, nil, api.ErrForm}, {api.TXT, make([]Word, 32), api.OK}, {api.TXT, make([]Word, 33), api.ErrForm}, {api.TXT, words(strings.Repeat("x", 256)), api.ErrLong}, {api.TXT, words("\\256"), api.ErrOver}, {api.TXT, words("\\1.2"), api.ErrForm}, {api.TXT, words("\\"), api.ErrForm}, {api.TXT, words(strings.Repeat("x", 256) + "\\12"), api.ErrForm}, {api.TXT, words(strings.Repeat("x", 256), "\\"), api.ErrLong},
+		{api.TXT, nil, api.ErrForm}, {api.TXT, make([]Word, 32), api.OK}, {api.TXT, make([]Word, 33), api.ErrForm}, {api.TXT, words(strings.Repeat("x", 256)), api.ErrLong}, {api.TXT, words("\\256"), api.ErrOver}, {api.TXT, words("\\1.2"), api.ErrForm}, {api.TXT, words("\\900"), api.ErrOver}, {api.TXT, words("\\9"), api.ErrForm}, {api.TXT, words("\\"), api.ErrForm}, {api.TXT, words(strings.Repeat("x", 256) + "\\12"), api.ErrForm}, {api.TXT, words(strings.Repeat("x", 256), "\\"), api.ErrLong},
 		{api.TXT, words(`\#`, "0"), api.ErrType}, {api.MX, words(`\#`), api.ErrType}, {api.NS, words(`\#`, "\"x"), api.ErrType},
 		{99, nil, api.ErrForm}, {99, words("x"), api.ErrForm}, {99, words(`"\#`, "0"), api.ErrForm}, {99, words(`\#`), api.ErrForm}, {99, words(`\#`, "\"0"), api.ErrForm}, {99, words(`\#`, "00"), api.ErrForm}, {99, words(`\#`, "x"), api.ErrForm},
 		{99, words(`\#`, "4294967296", "x"), api.ErrOver}, {99, words(`\#`, "4294967295", "x"), api.ErrLong}, {99, words(`\#`, "1025", "x"), api.ErrLong}, {99, words(`\#`, "1024", "x"), api.ErrForm},
@@ -144,10 +144,10 @@ func TestP401ParseErrors(t *testing.T) {
 func TestP401Order(t *testing.T) {
 	a, b := name.Name{"a"}, name.Name{"B"}
 	rising := []Data{
-		{Type: -1}, {Type: 1}, {Type: 1, Raw: []byte{1}}, {Type: 1, Raw: []byte{1, 0}}, {Type: 1, Raw: []byte{200}},
+		{Type: -1}, {Type: 1}, {Type: 1, Raw: []byte{1}}, {Type: 1, Raw: []byte{1, 0}}, {Type: 1, Raw: []byte{1, 1}}, {Type: 1, Raw: []byte{1, 1, 0}}, {Type: 1, Raw: []byte{200}},
 		{Type: 1, Texts: []string{""}}, {Type: 1, Texts: []string{"A"}}, {Type: 1, Texts: []string{"a"}},
-		{Type: 1, Nums: []uint32{1}}, {Type: 1, Nums: []uint32{1, 0}}, {Type: 1, Nums: []uint32{4294967295}},
-		{Type: 1, Names: []name.Name{{}}}, {Type: 1, Names: []name.Name{a}, Raw: []byte{9}}, {Type: 1, Names: []name.Name{a, a}}, {Type: 1, Names: []name.Name{b}},
+		{Type: 1, Nums: []uint32{1}}, {Type: 1, Nums: []uint32{1, 0}}, {Type: 1, Nums: []uint32{1, 7}}, {Type: 1, Nums: []uint32{4294967295}},
+		{Type: 1, Names: []name.Name{{}}}, {Type: 1, Names: []name.Name{a}, Raw: []byte{9}}, {Type: 1, Names: []name.Name{a, a}}, {Type: 1, Names: []name.Name{a, b}}, {Type: 1, Names: []name.Name{b}},
 		{Type: 2},
 	}
 	for i, x := range rising {

@@ -95,10 +95,12 @@ func TestP2401Path(t *testing.T) {
 	} {
 		q, _ := name.Parse(c.q, nil)
 		l := Path(n, find.Seen{Name: q, Type: api.A, Picks: c.picks})
-		if s := strings.Join(l, "|"); s != c.want {
+		if s := strings.Join(l, "|"); s != c.want || s == "" && len(l) > 0 {
 			t.Errorf("%s %v: %s", c.q, c.picks, s)
 		}
 	}
-	n.Roots = []int{-1, 9}
-	Path(n, find.Seen{Picks: []int{1, 0}})
+	n.Roots = []int{-1, 2, 9}
+	for p := range 3 {
+		Path(n, find.Seen{Picks: []int{p, 0}})
+	}
 }

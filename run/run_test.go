@@ -92,6 +92,11 @@ func TestP2101Explore(t *testing.T) {
 			t.Errorf("%s: %s, %d, %v", c.q, show(l), states, e)
 		}
 	}
+	twice := network(t, config, "root", "org NS x.\norg NS y.\norg NS b.\nx A 10.0.0.2\ny A 10.0.0.2\n", "org", "")
+	twice.Roots = []int{1, 0, 0, 1}
+	if l, states, e := Explore(twice, name.Name{"org"}, 1); show(l) != "empty 0 0" || states != 5 || e != api.OK {
+		t.Error(show(l), states, e)
+	}
 	if l, states, e := Explore(net.Net{}, nil, 1); len(l) != 0 || states != 0 || e != api.OK {
 		t.Error("no roots")
 	}
