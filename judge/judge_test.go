@@ -37,10 +37,10 @@ func TestP2801Net(t *testing.T) {
 	for config, want := range map[string]string{
 		"":                                  "error config:1: form\n",
 		"bound 1 1\nserver a. 1.1.1.1\nx\n": "error config:3: form\n",
-		"bound 1 1\nserver a. 1.1.1.1\nroot b.\n":                                          "error config:3: name\n",
-		"bound 1 1\nserver a. 1.1.1.1\n":                                                   "error config:3: empty\n",
-		"bound 9 1\nserver a. 1.1.1.1\nroot a.\n":                                          "error config:4: arg\n",
-		"bound 1 1\nserver a. 1.1.1.1\nzone . none\nzone a. root\nzone b. none\nroot a.\n": "error none:0: name\n",
+		"bound 1 1\nserver a. 1.1.1.1\nroot b.\n": "error config:3: name\n",
+		"bound 1 1\nserver a. 1.1.1.1\n":          "error config:3: empty\n",
+		"bound 9 1\nserver a. 1.1.1.1\nroot a.\n": "error config:4: arg\n",
+		"bound 1 1\nserver a. 1.1.1.1\nzone . none\nzone a. root\nzone b. none\nzone c. gone\nroot a.\n": "error none:0: name\nerror gone:0: name\n",
 	} {
 		n, r := Net(f, config)
 		a := Analyze(f, config)
